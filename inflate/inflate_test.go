@@ -303,8 +303,8 @@ func fixedWords() (literals, distances []string) {
 
 // checkPlain holds the text of a last block, from its first bit to its last
 // one, against what it produces, at all places of a byte and with the smallest
-// and a greater maximum; one less, and it is too much. Each cut is told, and
-// what follows doesn't matter.
+// and a greater maximum; one less, and it is too much. Shorter pieces are cut,
+// and what follows doesn't matter.
 func checkPlain(t *testing.T, text string, out []byte) {
 	t.Helper()
 	for r := range 8 {
@@ -338,8 +338,8 @@ func checkCuts(t *testing.T, b []byte, most int) {
 }
 
 // checkError holds the text of a block, up to the bit with which an error is
-// met, against this error, at all places of a byte: where any bit less is there
-// it is a cut instead, and what follows doesn't matter. The maximum leaves room
+// met, against this error, at all places of a byte: shorter pieces are cut
+// instead, and what follows doesn't matter. The maximum leaves room
 // for so many bytes.
 func checkError(t *testing.T, text string, room int, err api.Errno) {
 	t.Helper()
